@@ -1,0 +1,80 @@
+"""What several tests use: right deeds, things of every form, and chance that is the same in every run."""
+
+import random
+
+from wendleaf.errors import Refused
+
+GREATEST = 10 ** 12
+
+V1 = (1,)
+V2 = (GREATEST, -GREATEST)
+V4 = (0, -1, 2, 30)
+ROWS = (("a", (1,)), ("b.2", (2, -3)), ("k", V4))
+TWELVE = tuple((f"k{n:02}", (n,)) for n in range(12))
+
+RIGHT = (
+    ("put", 0, "k", None, V1),
+    ("put", 31, "abcdefghijkl", V2, None),
+    ("put", 3, "k.a", V4, V1),
+    ("bump", 0, "k", 0, 1),
+    ("bump", 7, "0", 3, 2 * GREATEST),
+    ("bump", 7, "0", 3, -2 * GREATEST),
+    ("rename", 1, "a", "b"),
+    ("rename", 1, "b", "a"),
+    ("take", 5, 2, "m", None),
+    ("take", 0, 31, None, "m"),
+    ("take", 31, 0, None, None),
+    ("take", 5, 2, "a", "b"),
+    ("drop", 5, 2, "m", None),
+    ("drop", 2, 5, "a", "aa"),
+    ("drop", 2, 5, None, None),
+    ("add", 5, "s", 0, 2, "a", 3, -1),
+    ("add", 5, "s", 3, 2, "s", 0, 1),
+    ("tally", 5, "s", 0, 2, None, None, 3, 1),
+    ("tally", 5, "s", 3, 2, "a", "b", 0, -1),
+    ("carry", 3, (), (("key", (5, 7)), ("key2", (1,)))),
+    ("carry", 3, ROWS, ()),
+    ("carry", 3, TWELVE, ROWS),
+)
+
+DEEP = ()
+for _ in range(19):
+    DEEP = (DEEP, 1, "a")
+
+# Things of every form: none of them may make a judge raise anything.
+THINGS = (
+    None, True, False, 0, 1, -1, 2, 12, 400, GREATEST, GREATEST + 1, 10 ** 5000, "", "a", "k.1", "put", "sum", "\n",
+    "\u00e9", "\ud800", "A", "abcdefghijklm", (), (None,), (True,), (0,), ("put",), ("carry",), ("a", (1,)), (("a", (1,)),),
+    (("a", (True,)),), (("a", 1),), (1, ()), (2, ((0, (1,)),)), (2, ((0, 1),)), (2, (0,)), (0, 0), (1, 1), ((), ()),
+    (None, None), ("take", None, None, None, None), (("put", 0, "k", None, (1,)),), DEEP, (DEEP, DEEP), ("put", DEEP, DEEP, DEEP, DEEP),
+)
+
+
+def refusal(call, *arguments, **named):
+    """The name and the `what` of the error that the call raises."""
+    try:
+        result = call(*arguments, **named)
+    except Refused as error:
+        return error.__class__.__name__, error.what
+    raise AssertionError(f"nothing was raised, but returned: {result!r}")
+
+
+def chance(seed):
+    return random.Random(seed)
+
+
+def some_log(luck, pages, deeds, ringless=False):
+    """A bare log of at most this many pages and deeds; without rings, a page reads only pages below it."""
+    many = luck.randint(1, pages)
+    made = []
+    for _ in range(luck.randint(0, deeds)):
+        page = luck.randrange(many)
+        others = [other for other in range(many) if other < page or (not ringless and other != page)]
+        made.append((page, tuple(sorted(luck.sample(others, min(len(others), luck.choice((0, 1, 1, 2))))))))
+    return many, tuple(made)
+
+
+def some_image(luck, log, lost=0.0):
+    """An image of the log; each page is lost with this chance."""
+    newest = [sum(1 for deed in log[1] if deed[0] == page) for page in range(log[0])]
+    return tuple(None if luck.random() < lost else luck.randint(0, most) for most in newest)

@@ -1,0 +1,1 @@
+"""Wendleaf: a crash-safe page store whose log records operations, not contents."""
