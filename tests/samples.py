@@ -49,6 +49,18 @@ THINGS = (
     (None, None), ("take", None, None, None, None), (("put", 0, "k", None, (1,)),), DEEP, (DEEP, DEEP), ("put", DEEP, DEEP, DEEP, DEEP),
 )
 
+# Things that are no bare logs, with the number of the first bad deed.
+BAD_LOGS = (
+    (None, -1), (True, -1), (1, -1), ("log", -1), ((), -1), ((1,), -1), ((1, (), ()), -1), (((), 1), -1), ((0, ()), -1),
+    ((-1, ()), -1), ((True, ()), -1), ((False, ()), -1), ((None, ()), -1), (("1", ()), -1), ((1, None), -1), ((1, 1), -1),
+    ((1, ""), -1), ((33, None), -1),
+    ((2, (None,)), 1), ((2, ((),)), 1), ((2, ((0,),)), 1), ((2, ((0, (), ()),)), 1), ((2, (((), 0),)), 1), ((2, ((2, ()),)), 1),
+    ((2, ((-1, ()),)), 1), ((2, ((True, ()),)), 1), ((2, ((0, None),)), 1), ((2, ((0, 1),)), 1), ((2, ((0, (0,)),)), 1),
+    ((2, ((0, (2,)),)), 1), ((2, ((0, (-1,)),)), 1), ((2, ((0, (True,)),)), 1), ((2, ((0, (1, 1)),)), 1),
+    ((3, ((0, (2, 1)),)), 1), ((3, ((0, (1, 0)),)), 1), ((3, ((1, (0, 1, 2)),)), 1), ((3, ((0, (1, None)),)), 1),
+    ((3, ((0, ("1",)),)), 1), ((2, ((0, ()), (1, (0,)), (2, ()), None)), 3), ((2, ((0, (1,)), (1, (1,)))), 2),
+)
+
 
 def refusal(call, *arguments, **named):
     """The name and the `what` of the error that the call raises."""
@@ -78,3 +90,8 @@ def some_image(luck, log, lost=0.0):
     """An image of the log; each page is lost with this chance."""
     newest = [sum(1 for deed in log[1] if deed[0] == page) for page in range(log[0])]
     return tuple(None if luck.random() < lost else luck.randint(0, most) for most in newest)
+
+
+def version_at_moment(log, page, moment):
+    """The version of the page at the moment, by a plain count."""
+    return sum(1 for deed in log[1][:moment] if deed[0] == page)

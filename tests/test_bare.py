@@ -1,6 +1,6 @@
 import unittest
 
-from samples import THINGS, chance, refusal, some_image, some_log
+from samples import BAD_LOGS, THINGS, chance, refusal, some_image, some_log
 from wendleaf.bare import bare, is_image, is_log, last, made_image, made_log, number_of, version_at
 from wendleaf.known import grown, known
 from wendleaf.moves import move
@@ -8,17 +8,6 @@ from wendleaf.worlds import worlds
 
 LOG = (3, ((0, ()), (1, (0,)), (0, ()), (2, (1,))))
 IMAGE = (2, 0, 0)
-
-BAD_LOGS = (
-    (None, -1), (True, -1), (1, -1), ("log", -1), ((), -1), ((1,), -1), ((1, (), ()), -1), (((), 1), -1), ((0, ()), -1),
-    ((-1, ()), -1), ((True, ()), -1), ((False, ()), -1), ((None, ()), -1), (("1", ()), -1), ((1, None), -1), ((1, 1), -1),
-    ((1, ""), -1), ((33, None), -1),
-    ((2, (None,)), 1), ((2, ((),)), 1), ((2, ((0,),)), 1), ((2, ((0, (), ()),)), 1), ((2, (((), 0),)), 1), ((2, ((2, ()),)), 1),
-    ((2, ((-1, ()),)), 1), ((2, ((True, ()),)), 1), ((2, ((0, None),)), 1), ((2, ((0, 1),)), 1), ((2, ((0, (0,)),)), 1),
-    ((2, ((0, (2,)),)), 1), ((2, ((0, (-1,)),)), 1), ((2, ((0, (True,)),)), 1), ((2, ((0, (1, 1)),)), 1),
-    ((3, ((0, (2, 1)),)), 1), ((3, ((0, (1, 0)),)), 1), ((3, ((1, (0, 1, 2)),)), 1), ((3, ((0, (1, None)),)), 1),
-    ((3, ((0, ("1",)),)), 1), ((2, ((0, ()), (1, (0,)), (2, ()), None)), 3), ((2, ((0, (1,)), (1, (1,)))), 2),
-)
 
 
 class Logs(unittest.TestCase):

@@ -15,6 +15,13 @@ FUNCTIONS = {
     "known": ("known(log, image)", "grown(log, image)"),
     "worlds": ("worlds(log, image)", "worlds_right(log, image, paper, x, k)"),
     "moves": ("move(log, image, thing)",),
+    "plans": ("slice_at(log, lots, s)", "road(log, image)", "plan(log, image)", "after(log, image, moves)",
+              "plan_right(log, image, moves)", "mendable(log, image)"),
+    "rings": ("order(log)", "ring(log)", "ring_right(log, thing)", "ring_image(log)"),
+    "knots": ("knots(log)", "written(log, image, lot)", "may_write(log, image, lot)"),
+    "heads": ("struck(log, count)", "moved_image(log, image, count)", "may_strike(log, image, count)", "cut(log, image)"),
+    "carried": ("carried(log, costs)",),
+    "logs": ("is_entry(thing)", "made_entry(thing)", "entry_line(entry)", "read_line(line)"),
 }
 METHODS = (
     "__init__(self, fuse=None)", "frame(self, page)", "frame_ids(self)", "tape(self)", "safe(self)", "shelf(self)",

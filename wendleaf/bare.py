@@ -49,9 +49,7 @@ def made_image(log, image):
     many, deeds = made_log(log)
     if not isinstance(image, tuple) or len(image) != many:
         raise BadImage(-1)
-    newest = [0] * many
-    for page, _ in deeds:
-        newest[page] += 1
+    newest = versions_at((many, deeds), len(deeds))
     for page, version in enumerate(image):
         if version is not None and not is_within(version, 0, newest[page]):
             raise BadImage(page)
@@ -83,6 +81,15 @@ def bare(deeds, many):
     """The bare log with `many` pages of the deeds."""
     made = [made_deed(deed) for deed in deeds]
     return made_log((many, tuple([(page_of(deed), reads_of(deed)) for deed in made])))
+
+
+def versions_at(log, moment):
+    """The versions of all pages of a valid log at the moment."""
+    many, deeds = log
+    versions = [0] * many
+    for page, _ in deeds[:moment]:
+        versions[page] += 1
+    return tuple(versions)
 
 
 def steps_of(log):

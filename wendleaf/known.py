@@ -22,22 +22,38 @@ def in_lot(lot, version):
     return lot is not None and lot[0] <= version <= lot[1]
 
 
+def first_lots(image):
+    """The lots that contain the versions of the image alone, as a list."""
+    return [None if version is None else (version, version) for version in image]
+
+
+def version_added(step, way):
+    """The version that a growth by this deed adds to the lot of its page."""
+    _, version, _ = step
+    return version if way == 1 else version - 1
+
+
+def widened(lot, version):
+    """The lot with one more version."""
+    low, high = lot
+    return min(low, version), max(high, version)
+
+
 def _grow(log, image):
     """The lots at the end, and all growths."""
     steps = steps_of(log)
     touching = _touching(steps)
-    lots = [None if version is None else (version, version) for version in image]
+    lots = first_lots(image)
     # A growth stays possible until it is made, so the heap holds each possible one, and each only once.
     waiting = [t for t in range(1, len(steps) + 1) if _way_of_growth(steps[t - 1], lots) != 0]
     growths = []
     while len(waiting) > 0:
         t = heappop(waiting)
-        page, version, _ = steps[t - 1]
+        page = steps[t - 1][0]
         way = _way_of_growth(steps[t - 1], lots)
         growths.append((t, way))
-        added = version if way == 1 else version - 1
-        low, high = lots[page]
-        lots[page] = (min(low, added), max(high, added))
+        added = version_added(steps[t - 1], way)
+        lots[page] = widened(lots[page], added)
         for other in touching[page, added]:
             if _way_of_growth(steps[other - 1], lots) != 0:
                 heappush(waiting, other)
