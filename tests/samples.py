@@ -2,7 +2,15 @@
 
 import random
 
+from wendleaf.deedrun import fits
+from wendleaf.deeds import is_deed
 from wendleaf.errors import Refused
+from wendleaf.frames import frame_text
+from wendleaf.logread import FIRST_HEAD
+from wendleaf.mending import puts, stands_of
+from wendleaf.rows import at
+from wendleaf.works import Work
+from wendleaf.writer import read_shelf
 
 GREATEST = 10 ** 12
 
@@ -95,3 +103,54 @@ def some_image(luck, log, lost=0.0):
 def version_at_moment(log, page, moment):
     """The version of the page at the moment, by a plain count."""
     return sum(1 for deed in log[1][:moment] if deed[0] == page)
+
+
+def some_deed(luck, look, pages=4):
+    """A deed that can be done on the rows that `look` tells."""
+    keys = "abcd"
+    while True:
+        page = luck.randrange(pages)
+        other = luck.choice([each for each in range(pages) if each != page])
+        key, named = luck.choice(keys), luck.choice(keys)
+        low, high = luck.choice(((None, None), ("b", None), (None, "c"), ("b", "d")))
+        sign = luck.choice((1, -1))
+        deed = luck.choice((
+            ("put", page, key, at(look(page), key), luck.choice((None, (luck.randint(-5, 5),), (1, 2)))),
+            ("put", page, key, at(look(page), key), (luck.randint(-5, 5),)),
+            ("bump", page, key, 0, luck.choice((1, -2))), ("rename", page, key, named), ("take", page, other, low, high),
+            ("drop", page, other, low, high), ("add", page, key, 0, other, named, 0, sign),
+            ("tally", page, key, 0, other, low, high, 0, sign), ("carry", page, look(page), ((key, (7,)),)),
+        ))
+        if is_deed(deed) and fits(deed, look(page), look):
+            return deed
+
+
+def fresh_work(disk, room=32):
+    """A work on a disk to which nothing was written."""
+    return Work(disk, room, (FIRST_HEAD,), ((),) * 32)
+
+
+def opened_work(disk, room=32):
+    """A work on any disk that is not wounded: what opening does, in the order of [19.2]."""
+    roll, good, stands = stands_of(disk)
+    led = puts(roll, stands)
+    if len(disk.tape()) > good:
+        disk.cut_tape(disk.tape()[:good])
+    elif disk.safe() < good:
+        disk.sync()
+    for page, number, rows in read_shelf(disk.shelf()) or ():
+        if disk.frame(page) != frame_text(page, number, rows):
+            disk.put_frame(page, frame_text(page, number, rows))
+    if disk.shelf() != "":
+        disk.put_shelf("")
+    for page, stand in enumerate(stands):
+        if stand == (0, ()) and disk.frame(page) not in (None, frame_text(page, 0, ())):
+            disk.put_frame(page, frame_text(page, 0, ()))
+    rows = [here for _, here in stands]
+    for page, number, here in led:
+        disk.put_frame(page, frame_text(page, number, here))
+        rows[page] = here
+    work = Work(disk, room, roll, rows)
+    if work.live() is not None:
+        work.give_up()
+    return work

@@ -21,14 +21,26 @@ FUNCTIONS = {
     "knots": ("knots(log)", "written(log, image, lot)", "may_write(log, image, lot)"),
     "heads": ("struck(log, count)", "moved_image(log, image, count)", "may_strike(log, image, count)", "cut(log, image)"),
     "carried": ("carried(log, costs)",),
+    "logread": ("is_roll(thing)", "made_roll(thing)", "roll_text(roll)", "read_tape(text)", "deeds_of(roll)", "bare_of(roll)",
+                "newest(roll, page)", "version_of(roll, page, number)", "number_at(roll, page, version)", "live_of(roll)",
+                "works_of(roll)"),
+    "writer": ("shelf_text(frames)", "read_shelf(text)"),
+    "losers": ("begin_moment(roll)", "backs_of(roll)"),
+    "mending": ("stands_of(disk)", "image_of(roll, stands)", "wounded_by(roll, stands)", "puts(roll, stands)"),
     "logs": ("is_entry(thing)", "made_entry(thing)", "entry_line(entry)", "read_line(line)"),
 }
-METHODS = (
-    "__init__(self, fuse=None)", "frame(self, page)", "frame_ids(self)", "tape(self)", "safe(self)", "shelf(self)",
-    "writes(self)", "put_frame(self, page, text)", "add_tape(self, text)", "sync(self)", "put_shelf(self, text)",
-    "cut_tape(self, text)", "fell(self, keep, fuse=None)", "spoil_frame(self, page, place, sign)",
-    "spoil_tape(self, place, sign)",
-)
+METHODS = {
+    ("disk", "Disk"): (
+        "__init__(self, fuse=None)", "frame(self, page)", "frame_ids(self)", "tape(self)", "safe(self)", "shelf(self)", "writes(self)",
+        "put_frame(self, page, text)", "add_tape(self, text)", "sync(self)", "put_shelf(self, text)", "cut_tape(self, text)",
+        "fell(self, keep, fuse=None)", "spoil_frame(self, page, place, sign)", "spoil_tape(self, place, sign)",
+    ),
+    ("works", "Work"): (
+        "page(self, page)", "number(self, page)", "roll(self)", "pending(self)", "kept(self)", "live(self)", "dirty(self)", "image(self)",
+        "begin(self)", "do(self, deed)", "end(self)", "give_up(self)", "flush_log(self)", "sync_log(self)", "may_go(self, page)",
+        "write(self, page)", "write_knot(self, page)", "write_all(self)", "checkpoint(self)", "cut_head(self)",
+    ),
+}
 
 
 class Interface(unittest.TestCase):
@@ -46,10 +58,11 @@ class Interface(unittest.TestCase):
                 self.check(module, module.__name__, signature)
 
     def test_methods_are_defined_in_the_class_itself(self):
-        disk = importlib.import_module("wendleaf.disk").Disk
-        self.assertEqual(disk.__module__, "wendleaf.disk")
-        for signature in METHODS:
-            self.check(disk, "wendleaf.disk", signature)
+        for (name, kind), signatures in METHODS.items():
+            module = importlib.import_module("wendleaf." + name)
+            self.assertEqual(vars(module)[kind].__module__, module.__name__)
+            for signature in signatures:
+                self.check(vars(module)[kind], module.__name__, signature)
 
 
 if __name__ == "__main__":

@@ -39,7 +39,7 @@ def read_frame(text):
     page, number = first
     rows = []
     for index in range(1, len(lines)):
-        if _is_sum_line(lines[index]):
+        if is_sum_line(lines[index]):
             _check_end(lines, rest, index)
             return page, number, tuple(rows)
         row = _read_row(lines[index])
@@ -47,6 +47,13 @@ def read_frame(text):
             raise BadText(index)
         rows.append(row)
     raise BadText(len(lines))
+
+
+def is_sum_line(line):
+    """Whether the line has the form of a sum's line, right or wrong."""
+    if len(line) != SUM_LENGTH or not line.startswith(SUM_BEGINNING):
+        return False
+    return all(sign in FIGURES for sign in line[len(SUM_BEGINNING):])
 
 
 def _read_page_line(line):
@@ -75,13 +82,6 @@ def _may_follow(rows, row):
     if len(rows) == 0:
         return True
     return len(rows) < MOST_ROWS and rows[-1][0] < row[0]
-
-
-def _is_sum_line(line):
-    """Whether the line has the form of a sum's line, right or wrong."""
-    if len(line) != SUM_LENGTH or not line.startswith(SUM_BEGINNING):
-        return False
-    return all(sign in FIGURES for sign in line[len(SUM_BEGINNING):])
 
 
 def _check_end(lines, rest, index):
