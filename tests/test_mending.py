@@ -3,7 +3,7 @@ import unittest
 from samples import chance, fresh_work, opened_work, refusal, some_deed
 from wendleaf.deedrun import done
 from wendleaf.deeds import page_of
-from wendleaf.disk import Disk
+from wendleaf.disk import Disk, read_disk
 from wendleaf.frames import frame_text
 from wendleaf.known import known
 from wendleaf.logread import bare_of, deeds_of, number_at, read_tape, roll_text, version_of
@@ -131,9 +131,20 @@ class Stands(unittest.TestCase):
                     self.assertEqual(refusal(stands_of, disk_of(roll, ahead, "", rest)), lost)
                     self.assertEqual(refusal(stands_of, disk_of(roll, (), shelf_text(((3, number, ROWS),)), rest)), lost)
                     self.assertEqual(refusal(stands_of, disk_of(roll, ((3, "x"),), shelf_text(((3, number, ()),)), rest)), lost)
-                    self.assertEqual(refusal(stands_of, disk_of(roll, ahead, shelf_text(((3, 0, ()),)), rest)), lost)
+                    self.assertEqual(refusal(stands_of, disk_of(roll, ahead, shelf_text(((4, 0, ()),)), rest)), lost)
+                    self.assertEqual(refusal(stands_of, disk_of(roll, ahead, shelf_text(((3, 0, ()),)) + "x", rest)), lost)
+                    self.assertEqual(stand(disk_of(roll, ahead, shelf_text(((3, 0, ()),)), rest))[3], BLANK)
                 self.assertEqual(stand(disk_of(roll, ((3, (last, ())),)))[3], BLANK)
                 self.assertEqual(stand(disk_of(roll, ((3, frame_text(4, last + 1, ())), (4, frame_text(4, last + 1, ()) + "x"))))[3:5], (BLANK, BLANK))
+
+    def test_a_frame_under_one_of_the_shelf_does_not_count(self):
+        disk = read_disk(
+            "disk 1\nframe 0 20\npage 0 6\nsum 002213\n\ntape 54 54\n1 begin 002726\n2 deed put 0 k - 5 010796\n3 end 001358\n\n"
+            "shelf 43\nshelf 1\npage 0 2\nk 5\nsum 004369\nsum 030671\n\n")
+        roll = (FIRST, (1, "begin", None), (2, "deed", PUT), (3, "end", None))
+        self.assertEqual(stands_of(disk), (roll, 54, ((2, ROWS),) + (BLANK,) * 31))
+        self.assertEqual(opened_work(disk).page(0), ROWS)
+        self.assertEqual(disk.frame(0), frame_text(0, 2, ROWS))
 
     def test_bad_tapes_go_first(self):
         disk = disk_of(NEW[:2], ((3, (99, ())),))

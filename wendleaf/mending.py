@@ -19,16 +19,10 @@ BLANK = (0, ())
 def stands_of(disk):
     """The roll, the number of signs of the tape's good part, and what stands in each page."""
     roll, good = read_tape(disk.tape())
-    frames = [_read_frame(page, disk.frame(page)) for page in range(PAGES)]
-    shelved = read_shelf(disk.shelf())
-    if shelved is None:
-        shelved = ()
-    # A frame that no entry can have made is a sign of a lost log, also if the shelf has another one for its page.
-    numbers = [frame[0] for frame in frames if frame is not None] + [number for _, number, _ in shelved]
-    if max(numbers, default=0) > roll[-1][0]:
+    frames = _frames_used(disk)
+    # A frame that no entry can have made is a sign of a lost log.
+    if max([frame[0] for frame in frames if frame is not None], default=0) > roll[-1][0]:
         raise BadTape(disk.tape().count("\n"))
-    for page, number, rows in shelved:
-        frames[page] = (number, rows)
     return roll, good, _stands(roll, frames)
 
 
@@ -68,6 +62,16 @@ def puts(roll, stands):
         rows[page] = done(deed, rows[page], lambda read: rows[read])
         found.append((page, numbers[page][versions[page]], rows[page]))
     return tuple(found)
+
+
+def _frames_used(disk):
+    """For each page the number and the rows of its frame, or None; a frame of the shelf hides the one on the disk."""
+    frames = [_read_frame(page, disk.frame(page)) for page in range(PAGES)]
+    shelved = read_shelf(disk.shelf())
+    if shelved is not None:
+        for page, number, rows in shelved:
+            frames[page] = (number, rows)
+    return frames
 
 
 def _read_frame(page, text):
