@@ -2,15 +2,14 @@
 
 import random
 
-from wendleaf.deedrun import fits
-from wendleaf.deeds import is_deed
+from wendleaf.deedrun import done, fits
+from wendleaf.deeds import inverse, is_deed, page_of
+from wendleaf.disk import Disk, read_disk
 from wendleaf.errors import Refused
 from wendleaf.frames import frame_text
-from wendleaf.logread import FIRST_HEAD
-from wendleaf.mending import puts, stands_of
+from wendleaf.logread import roll_text
+from wendleaf.logs import entry_line
 from wendleaf.rows import at
-from wendleaf.works import Work
-from wendleaf.writer import read_shelf
 
 GREATEST = 10 ** 12
 
@@ -125,32 +124,103 @@ def some_deed(luck, look, pages=4):
             return deed
 
 
-def fresh_work(disk, room=32):
-    """A work on a disk to which nothing was written."""
-    return Work(disk, room, (FIRST_HEAD,), ((),) * 32)
+class Watched(Disk):
+    """A disk that tells its writes one by one."""
+
+    def __init__(self, fuse=None):
+        super().__init__(fuse)
+        self.told = []
+
+    def put_frame(self, page, text):
+        super().put_frame(page, text)
+        self.told.append(("frame", page, text))
+
+    def add_tape(self, text):
+        super().add_tape(text)
+        self.told.append(("add", text))
+
+    def sync(self):
+        super().sync()
+        self.told.append(("sync",))
+
+    def put_shelf(self, text):
+        super().put_shelf(text)
+        self.told.append(("shelf", text))
+
+    def cut_tape(self, text):
+        super().cut_tape(text)
+        self.told.append(("cut", text))
+
+    def news(self):
+        """The writes since the last call."""
+        told, self.told = self.told, []
+        return told
 
 
-def opened_work(disk, room=32):
-    """A work on any disk that is not wounded: what opening does, in the order of [19.2]."""
-    roll, good, stands = stands_of(disk)
-    led = puts(roll, stands)
-    if len(disk.tape()) > good:
-        disk.cut_tape(disk.tape()[:good])
-    elif disk.safe() < good:
-        disk.sync()
-    for page, number, rows in read_shelf(disk.shelf()) or ():
-        if disk.frame(page) != frame_text(page, number, rows):
-            disk.put_frame(page, frame_text(page, number, rows))
-    if disk.shelf() != "":
-        disk.put_shelf("")
-    for page, stand in enumerate(stands):
-        if stand == (0, ()) and disk.frame(page) not in (None, frame_text(page, 0, ())):
-            disk.put_frame(page, frame_text(page, 0, ()))
-    rows = [here for _, here in stands]
-    for page, number, here in led:
-        disk.put_frame(page, frame_text(page, number, here))
-        rows[page] = here
-    work = Work(disk, room, roll, rows)
-    if work.live() is not None:
-        work.give_up()
-    return work
+def lines(*entries):
+    return "".join(entry_line(entry) for entry in entries)
+
+
+def disk_of(roll, frames=(), shelf="", rest="", fuse=None):
+    """A disk with this roll; each frame is a text, or the number and the rows for its page."""
+    disk = Watched(fuse)
+    disk.add_tape(roll_text(roll) + rest)
+    disk.sync()
+    for page, frame in frames:
+        disk.put_frame(page, frame if isinstance(frame, str) else frame_text(page, *frame))
+    disk.put_shelf(shelf)
+    disk.news()
+    return disk
+
+
+def watched(text):
+    """A disk with this text that tells its writes."""
+    plain = read_disk(text)
+    disk = Watched()
+    vars(disk).update(vars(plain))
+    return disk
+
+
+def spoilt(text, place, sign):
+    """The text with another sign at the place."""
+    return text[:place] + sign + text[place + 1:]
+
+
+class History:
+    """What works have done, entry by entry, kept apart from the log that may lose its head."""
+
+    def __init__(self):
+        self.entries = {}
+
+    def remember(self, work):
+        for number, mark, part in work.roll()[1:]:
+            self.entries[number] = (mark, part)
+
+    def forget(self, last):
+        """Takes back the entries behind the one with the number `last`, which a crash has lost."""
+        self.entries = {number: entry for number, entry in self.entries.items() if number <= last}
+
+    def rows_at(self, last):
+        """The rows behind the entry with this number, and what they are if an open work is undone."""
+        rows = {page: () for page in range(32)}
+        live = []
+        for number in range(1, last + 1):
+            mark, part = self.entries[number]
+            if mark in ("begin", "end"):
+                live = []
+                continue
+            deed = part if mark == "deed" else part[1]
+            rows[page_of(deed)] = done(deed, rows[page_of(deed)], rows.get)
+            if mark == "deed":
+                live.append(deed)
+            else:
+                live.pop()
+        finished = dict(rows)
+        for deed in reversed(live):
+            finished[page_of(deed)] = done(inverse(deed), finished[page_of(deed)], finished.get)
+        return [rows[page] for page in range(32)], [finished[page] for page in range(32)]
+
+
+def pages_of(work):
+    """The rows of all pages of the work."""
+    return [work.page(page) for page in range(32)]

@@ -1,13 +1,13 @@
 import unittest
 
-from samples import chance, fresh_work, opened_work, some_deed
-from wendleaf.deedrun import done
-from wendleaf.deeds import inverse, page_of
-from wendleaf.disk import Disk
+from samples import History, chance, pages_of, some_deed
+from wendleaf.disk import Disk, disk_text
+from wendleaf.errors import Fallen
 from wendleaf.frames import frame_text, read_frame
 from wendleaf.knots import knots, may_write
 from wendleaf.logread import bare_of, live_of, newest, read_tape, roll_text, version_of
 from wendleaf.logs import entry_line
+from wendleaf.opening import opened
 from wendleaf.plans import mendable
 from wendleaf.writer import read_shelf
 
@@ -34,45 +34,21 @@ class Crashes(unittest.TestCase):
                 raise
             self.assertIn(error.__class__.__name__, ("Open", "NotOpen", "NotYet", "Unfit", "Full"))
 
-    def remember(self, history, work):
-        for number, mark, part in work.roll()[1:]:
-            history[number] = (mark, part)
-
-    def rows_at(self, history, last):
-        """The rows behind the entry with this number; an open work is undone."""
-        rows = {page: () for page in range(32)}
-        live = []
-        for number in range(1, last + 1):
-            mark, part = history[number]
-            if mark in ("begin", "end"):
-                live = []
-                continue
-            deed = part if mark == "deed" else part[1]
-            rows[page_of(deed)] = done(deed, rows[page_of(deed)], rows.get)
-            if mark == "deed":
-                live.append(deed)
-            else:
-                live.pop()
-        finished = dict(rows)
-        for deed in reversed(live):
-            finished[page_of(deed)] = done(inverse(deed), finished[page_of(deed)], finished.get)
-        return rows, finished
-
     def test_all_that_can_be_seen(self):
         for seed in range(40):
             luck = chance(seed)
             disk = Disk()
-            work = fresh_work(disk, luck.choice((1, 2, 4, 32)))
-            history = {}
+            work = opened(disk, luck.choice((1, 2, 4, 32)))
+            history = History()
             for _ in range(60):
                 self.call(luck, work)
-                self.remember(history, work)
+                history.remember(work)
                 self.check(disk, work, history)
 
     def check(self, disk, work, history):
         roll = work.roll()
-        rows, _ = self.rows_at(history, roll[-1][0])
-        self.assertEqual([work.page(page) for page in range(32)], [rows[page] for page in range(32)])
+        rows, _ = history.rows_at(roll[-1][0])
+        self.assertEqual(pages_of(work), rows)
         self.assertEqual([work.number(page) for page in range(6)], [newest(roll, page) for page in range(6)])
         self.assertEqual(disk.tape() + "".join(entry_line(entry) for entry in work.pending()), roll_text(roll))
         self.assertEqual(roll[len(roll) - len(work.pending()):], work.pending())
@@ -116,44 +92,84 @@ class Crashes(unittest.TestCase):
             image.append(version_of(roll, page, number))
         return tuple(image)
 
-    def crash(self, luck, disk, history):
-        """Opens what is left after a crash, and crashes again while it is opened."""
-        self.check_what_is_left(disk)
-        left = disk.fell(luck.choice((0, len(disk.tape()) - disk.safe(), luck.randint(0, len(disk.tape()) - disk.safe()))))
+    def last_on_tape(self, disk):
+        """The number of the last entry that opening finds on the tape."""
+        return read_tape(disk.tape())[0][-1][0]
+
+    def check_opened(self, work, left, history):
+        """What holds of a work that was just opened, and that opening it once more writes nothing."""
+        last = self.last_on_tape(left)
+        _, finished = history.rows_at(last)
+        self.assertEqual(pages_of(work), finished)
+        self.assertEqual(work.roll()[-1][0], last + len(work.pending()))
+        self.assertIs(work.live(), None)
+        writes, text = left.writes(), disk_text(left)
+        again = opened(left)
+        self.assertEqual((left.writes(), disk_text(left)), (writes, text))
+        self.assertEqual((again.roll(), pages_of(again)), (work.roll(), finished))
+        self.assertEqual(again.begin(), work.roll()[-1][0] + 1)
+
+    def crash_while_opening(self, luck, left, history):
+        """Opens what is left, falls at each write of opening, and opens what that leaves."""
+        fuse = 0
         while True:
-            again = left.fell(0, luck.choice((None, 0, 1, 2, 3, 7)))
+            again = left.fell(0, fuse)
             try:
-                work = opened_work(again)
-            except ValueError as error:
-                self.assertEqual(error.__class__.__name__, "Fallen")
+                work = opened(again, luck.choice((1, 2, 32)))
+            except Fallen:
+                self.assertEqual(again.writes(), fuse)
                 self.check_what_is_left(again)
-                left = again.fell(luck.randint(0, len(again.tape()) - again.safe()))
+                keep = luck.choice((0, luck.randint(0, len(again.tape()) - again.safe()), len(again.tape()) - again.safe()))
+                third = again.fell(keep)
+                self.check_opened(opened(third, luck.choice((1, 3, 32))), third, history)
+                fuse += 1
                 continue
-            last = max(number for number, mark, _ in work.roll() if number not in [entry[0] for entry in work.pending()])
-            _, finished = self.rows_at(history, last)
-            self.assertEqual([work.page(page) for page in range(32)], [finished[page] for page in range(32)])
+            self.check_opened(work, again.fell(0), history)
             return
 
     def test_crashes_at_every_write(self):
-        for seed in range(12):
-            program, room = chance(seed), (1, 2, 4, 32)[seed % 4]
+        for seed in range(16):
+            program, room = chance(seed), (1, 2, 3, 32)[seed % 4]
             disk = Disk()
-            work = fresh_work(disk, room)
-            history = {}
+            work = opened(disk, room)
+            history = History()
             for _ in range(45):
                 self.call(program, work)
-                self.remember(history, work)
+                history.remember(work)
             for fuse in range(disk.writes() + 1):
                 luck = chance(seed)
                 fallen = Disk(fuse)
-                work = fresh_work(fallen, room)
+                work = opened(fallen, room)
                 try:
                     for _ in range(45):
                         self.call(luck, work)
-                except ValueError as error:
-                    self.assertEqual((error.__class__.__name__, error.what), ("Fallen", fuse))
+                except Fallen as error:
+                    self.assertEqual(error.what, fuse)
                 self.assertEqual(fallen.writes(), fuse)
-                self.crash(chance(seed + fuse), fallen, history)
+                self.check_what_is_left(fallen)
+                unsafe = len(fallen.tape()) - fallen.safe()
+                for keep in sorted({0, luck.randint(0, unsafe), unsafe}):
+                    self.crash_while_opening(luck, fallen.fell(keep), history)
+
+    def test_one_crash_behind_another(self):
+        """A store that goes on behind each crash, with numbers that go on, over many crashes."""
+        for seed in range(10):
+            luck = chance(seed + 50)
+            disk = Disk(luck.randint(0, 25))
+            history = History()
+            crashes = 0
+            while crashes < 12:
+                try:
+                    work = opened(disk, luck.choice((1, 2, 3, 32)))
+                    history.forget(self.last_on_tape(disk))
+                    self.assertEqual(pages_of(work), history.rows_at(self.last_on_tape(disk))[1])
+                    while True:
+                        history.remember(work)
+                        self.call(luck, work)
+                except Fallen:
+                    crashes += 1
+                    self.check_what_is_left(disk)
+                    disk = disk.fell(luck.randint(0, len(disk.tape()) - disk.safe()), luck.randint(0, 25))
 
 
 if __name__ == "__main__":

@@ -27,6 +27,12 @@ FUNCTIONS = {
     "writer": ("shelf_text(frames)", "read_shelf(text)"),
     "losers": ("begin_moment(roll)", "backs_of(roll)"),
     "mending": ("stands_of(disk)", "image_of(roll, stands)", "wounded_by(roll, stands)", "puts(roll, stands)"),
+    "opening": ("opened(disk, room=32)",),
+    "past": ("past(disk, page, moment)", "reach(disk, page)", "past_works(work)"),
+    "papers": ("wounds(disk)", "worlds_of(disk, page, moment)"),
+    "names": ("is_name(thing)", "is_rowname(thing)", "is_source(thing)", "is_numbers(thing, width)"),
+    "leaves": ("is_leaf_rows(rows, width)", "leaf_sums(rows, width)"),
+    "branches": ("is_branch_rows(rows)", "row_of_way(rows, name)"),
     "logs": ("is_entry(thing)", "made_entry(thing)", "entry_line(entry)", "read_line(line)"),
 }
 METHODS = {

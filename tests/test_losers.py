@@ -1,10 +1,11 @@
 import unittest
 
-from samples import chance, fresh_work, some_deed
+from samples import chance, some_deed
 from wendleaf.deeds import inverse
 from wendleaf.disk import Disk
 from wendleaf.logread import deeds_of, live_of
 from wendleaf.losers import backs_of, begin_moment
+from wendleaf.opening import opened
 
 FIRST = (0, "head", (0,) * 32)
 HEAD = (7, "head", (7,) * 32)
@@ -42,7 +43,7 @@ class Losers(unittest.TestCase):
     def test_they_are_what_giving_up_appends(self):
         luck = chance(91)
         for _ in range(40):
-            work = fresh_work(Disk())
+            work = opened(Disk())
             for _ in range(luck.randint(0, 3)):
                 work.begin()
                 for _ in range(luck.randint(0, 5)):

@@ -1,6 +1,6 @@
 import unittest
 
-from samples import chance, fresh_work, opened_work, refusal, some_deed
+from samples import chance, disk_of, refusal, some_deed
 from wendleaf.deedrun import done
 from wendleaf.deeds import page_of
 from wendleaf.disk import Disk, read_disk
@@ -10,6 +10,7 @@ from wendleaf.logread import bare_of, deeds_of, number_at, read_tape, roll_text,
 from wendleaf.logs import entry_line
 from wendleaf.losers import begin_moment
 from wendleaf.mending import image_of, puts, stands_of, wounded_by
+from wendleaf.opening import opened
 from wendleaf.plans import mendable, plan
 from wendleaf.writer import shelf_text
 
@@ -24,17 +25,6 @@ NEW = (FIRST, (1, "begin", None), (2, "deed", PUT), (3, "deed", TAKE), (4, "deed
 BUMP = ("bump", 0, "k", 0, 1)
 ADD = ("add", 1, "k", 0, 0, "k", 0, 1)
 LATER = ((7, "head", (4, 6) + (0,) * 30), (8, "begin", None), (9, "deed", BUMP), (10, "deed", ADD), (11, "end", None))
-
-
-def disk_of(roll, frames=(), shelf="", rest=""):
-    """A disk with this roll; each frame is a text, or the number and the rows for its page."""
-    disk = Disk()
-    disk.add_tape(roll_text(roll) + rest)
-    disk.sync()
-    for page, frame in frames:
-        disk.put_frame(page, frame if isinstance(frame, str) else frame_text(page, *frame))
-    disk.put_shelf(shelf)
-    return disk
 
 
 def stand(disk):
@@ -143,7 +133,7 @@ class Stands(unittest.TestCase):
             "shelf 43\nshelf 1\npage 0 2\nk 5\nsum 004369\nsum 030671\n\n")
         roll = (FIRST, (1, "begin", None), (2, "deed", PUT), (3, "end", None))
         self.assertEqual(stands_of(disk), (roll, 54, ((2, ROWS),) + (BLANK,) * 31))
-        self.assertEqual(opened_work(disk).page(0), ROWS)
+        self.assertEqual(opened(disk).page(0), ROWS)
         self.assertEqual(disk.frame(0), frame_text(0, 2, ROWS))
 
     def test_bad_tapes_go_first(self):
@@ -196,23 +186,9 @@ class Wounds(unittest.TestCase):
         self.assertEqual(begin_moment(roll), 0)
         self.assertEqual(wounded_by(roll, stands), (0, 1))
         self.assertEqual(refusal(puts, roll, stands), ("Wounded", (0, 1)))
-        self.assertEqual(refusal(opened_work, disk), ("Wounded", (0, 1)))
+        self.assertEqual(refusal(opened, disk), ("Wounded", (0, 1)))
         ended = roll + ((7, "end", None),)
         self.assertEqual(wounded_by(ended, stands), (0,))
-
-    def test_the_worked_example(self):
-        disk = Disk()
-        work = fresh_work(disk)
-        work.begin()
-        work.do(("put", 0, "a", None, (1,)))
-        work.do(("put", 1, "a", None, (2,)))
-        work.end()
-        work.checkpoint()
-        work.begin()
-        work.do(("add", 1, "a", 0, 0, "a", 0, 1))
-        work.write(1)
-        disk.spoil_frame(0, 0, "q")
-        self.assertEqual(refusal(opened_work, disk), ("Wounded", (0, 1)))
 
     def test_pages_in_a_ring(self):
         head = (7, "head", (4, 6) + (0,) * 30)
@@ -226,7 +202,7 @@ class Wounds(unittest.TestCase):
         seen = set()
         for _ in range(150):
             disk = Disk()
-            work = fresh_work(disk)
+            work = opened(disk)
             for count in range(3):
                 work.begin()
                 for _ in range(luck.randint(1, 4)):
@@ -287,7 +263,7 @@ class Puts(unittest.TestCase):
         luck = chance(96)
         moved = 0
         for _ in range(80):
-            work = fresh_work(Disk())
+            work = opened(Disk())
             for _ in range(3):
                 work.begin()
                 for _ in range(luck.randint(1, 5)):

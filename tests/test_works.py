@@ -1,10 +1,11 @@
 import unittest
 
-from samples import THINGS, chance, fresh_work, opened_work, refusal, some_deed
+from samples import THINGS, Watched, chance, lines, refusal, some_deed
 from wendleaf.disk import Disk, disk_text
 from wendleaf.frames import frame_text
 from wendleaf.logread import FIRST_HEAD, bare_of, roll_text
 from wendleaf.logs import entry_line
+from wendleaf.opening import opened
 from wendleaf.writer import shelf_text
 
 PUT = ("put", 0, "k", None, (5,))
@@ -12,39 +13,6 @@ TAKE = ("take", 1, 0, None, None)
 DROP = ("drop", 0, 1, None, None)
 ROWS = (("k", (5,)),)
 BAD_PAGES = (-1, 32, True, False, None, "0", (0,), 10 ** 13)
-
-
-class Watched(Disk):
-    """A disk that tells its writes one by one."""
-
-    def __init__(self, fuse=None):
-        super().__init__(fuse)
-        self.told = []
-
-    def put_frame(self, page, text):
-        super().put_frame(page, text)
-        self.told.append(("frame", page, text))
-
-    def add_tape(self, text):
-        super().add_tape(text)
-        self.told.append(("add", text))
-
-    def sync(self):
-        super().sync()
-        self.told.append(("sync",))
-
-    def put_shelf(self, text):
-        super().put_shelf(text)
-        self.told.append(("shelf", text))
-
-    def cut_tape(self, text):
-        super().cut_tape(text)
-        self.told.append(("cut", text))
-
-    def news(self):
-        """The writes since the last call."""
-        told, self.told = self.told, []
-        return told
 
 
 def shot(work, disk):
@@ -57,14 +25,10 @@ def put(page, key="k", number=1):
     return ("put", page, key, None, (number,))
 
 
-def lines(*entries):
-    return "".join(entry_line(entry) for entry in entries)
-
-
 def example(room=32):
     """The work of [21.1] (a)."""
     disk = Watched()
-    work = fresh_work(disk, room)
+    work = opened(disk, room)
     numbers = [work.begin(), work.do(PUT), work.do(TAKE), work.do(DROP), work.end()]
     return disk, work, numbers
 
@@ -72,7 +36,7 @@ def example(room=32):
 def bumps(many, room=32):
     """A work that is open and has done this many deeds on page 0."""
     disk = Disk()
-    work = fresh_work(disk, room)
+    work = opened(disk, room)
     work.begin()
     work.do(put(0))
     for _ in range(many - 1):
@@ -88,7 +52,7 @@ class Deeds(unittest.TestCase):
 
     def test_a_new_one(self):
         disk = Disk()
-        work = fresh_work(disk)
+        work = opened(disk)
         self.assertEqual((work.roll(), work.pending(), work.kept(), work.live(), work.dirty()), ((FIRST_HEAD,), (), (), None, ()))
         self.assertEqual(work.image(), (0,) * 32)
         self.assertEqual([work.page(page) for page in range(32)], [()] * 32)
@@ -113,7 +77,7 @@ class Deeds(unittest.TestCase):
 
     def test_begin_is_refused(self):
         disk = Disk()
-        work = fresh_work(disk)
+        work = opened(disk)
         work.begin()
         self.refused(work, disk, ("Open", 1), work.begin)
         work.do(PUT)
@@ -124,7 +88,7 @@ class Deeds(unittest.TestCase):
 
     def test_a_full_log(self):
         disk = Disk()
-        work = fresh_work(disk)
+        work = opened(disk)
         for _ in range(849):
             work.begin()
             work.end()
@@ -141,7 +105,7 @@ class Deeds(unittest.TestCase):
 
     def test_exactly_1700_entries(self):
         disk = Disk()
-        work = fresh_work(disk)
+        work = opened(disk)
         for _ in range(848):
             work.begin()
             work.end()
@@ -153,7 +117,7 @@ class Deeds(unittest.TestCase):
 
     def test_do_is_refused(self):
         disk = Disk()
-        work = fresh_work(disk)
+        work = opened(disk)
         for thing, what in ((None, 0), ((), 0), ("put", 0), (("take", 1, 1, "b", "a"), 2), (("take", 1, 2, "b", "a"), 4), (list(PUT), 0),
                             (("bump", 0, "k", 4, 0), 3)):
             self.refused(work, disk, ("BadDeed", what), work.do, thing)
@@ -207,7 +171,7 @@ class Deeds(unittest.TestCase):
 
     def test_a_full_log_makes_no_room(self):
         disk = Disk()
-        work = fresh_work(disk, 1)
+        work = opened(disk, 1)
         work.begin()
         work.do(put(0))
         for _ in range(199):
@@ -253,7 +217,7 @@ class Deeds(unittest.TestCase):
 class Dirty(unittest.TestCase):
     def test_the_eldest_first(self):
         disk = Disk()
-        work = fresh_work(disk)
+        work = opened(disk)
         work.begin()
         for page in (5, 3, 5, 9, 3, 0):
             work.do(put(page, f"k{len(work.roll())}"))
@@ -267,7 +231,7 @@ class Dirty(unittest.TestCase):
 
     def test_giving_up_makes_pages_dirty(self):
         disk = Disk()
-        work = fresh_work(disk, 2)
+        work = opened(disk, 2)
         work.begin()
         for page in (4, 6, 2, 7):
             work.do(put(page))
@@ -279,7 +243,7 @@ class Dirty(unittest.TestCase):
 
     def test_more_dirty_pages_than_room(self):
         disk = Watched()
-        work = fresh_work(disk, 2)
+        work = opened(disk, 2)
         work.begin()
         for page in (4, 6, 2, 7):
             work.do(put(page))
@@ -308,7 +272,7 @@ class Writing(unittest.TestCase):
         self.assertEqual((disk.writes(), work.may_go(0), work.pending(), work.dirty()), (3, True, (), (0,)))
         self.assertEqual(work.image()[:3], (0, 1, 0))
         left = disk.fell(0)
-        again = opened_work(left)
+        again = opened(left)
         self.assertEqual((left.writes(), again.page(0), again.page(1)), (4, (), ROWS))
         self.assertEqual((left.frame(0), left.frame(1)), (frame_text(0, 4, ()), frame_text(1, 3, ROWS)))
         self.assertEqual((again.dirty(), again.pending(), again.image()[:3]), ((), (), (2, 1, 0)))
@@ -328,7 +292,7 @@ class Writing(unittest.TestCase):
 
     def test_example_c(self):
         disk = Watched()
-        work = fresh_work(disk, 1)
+        work = opened(disk, 1)
         work.begin()
         work.do(PUT)
         self.assertEqual(disk.news(), [])
@@ -340,7 +304,7 @@ class Writing(unittest.TestCase):
 
     def test_the_log(self):
         disk = Watched()
-        work = fresh_work(disk)
+        work = opened(disk)
         work.flush_log()
         work.sync_log()
         self.assertEqual(disk.news(), [])
@@ -382,7 +346,7 @@ class Writing(unittest.TestCase):
 
     def test_a_page_in_no_ring_is_written_without_the_shelf(self):
         disk = Watched()
-        work = fresh_work(disk)
+        work = opened(disk)
         work.begin()
         work.do(put(3))
         work.do(put(4))
@@ -434,14 +398,14 @@ class Room(unittest.TestCase):
     def ring_of_two(self, room):
         """Pages 0 and 1 have read one another so that neither of them may go by itself."""
         disk = Watched()
-        work = fresh_work(disk, 32)
+        work = opened(disk, 32)
         work.begin()
         for page in (0, 1):
             work.do(put(page, "k"))
             work.do(put(page, f"x{page}"))
         work.end()
         work.checkpoint()
-        again = opened_work(disk, room)
+        again = opened(disk, room)
         disk.news()
         again.begin()
         for page in (1, 0, 1, 0):
@@ -450,7 +414,7 @@ class Room(unittest.TestCase):
 
     def test_the_first_that_may_go(self):
         disk = Watched()
-        work = fresh_work(disk, 2)
+        work = opened(disk, 2)
         work.begin()
         for deed in (PUT, TAKE, DROP):
             work.do(deed)
@@ -473,13 +437,13 @@ class Room(unittest.TestCase):
 
     def test_the_eldest_ones_knot_beside_another_one(self):
         disk = Watched()
-        work = fresh_work(disk)
+        work = opened(disk)
         work.begin()
         for page in range(4):
             work.do(put(page))
         work.end()
         work.checkpoint()
-        again = opened_work(disk, 4)
+        again = opened(disk, 4)
         again.begin()
         for page, read in ((3, 1), (0, 2), (1, 3), (2, 0), (3, 1), (0, 2), (1, 3), (2, 0)):
             again.do(("add", page, "k", 0, read, "k", 0, 1))
@@ -507,7 +471,7 @@ class Room(unittest.TestCase):
             told = []
             for room in (1, 2, 3, 32):
                 luck = chance(seed)
-                work = fresh_work(Disk(), room)
+                work = opened(Disk(), room)
                 results = []
                 for _ in range(60):
                     results.append(self.step(luck, work))
@@ -532,7 +496,7 @@ class Room(unittest.TestCase):
     def test_the_room_is_kept(self):
         for room in (1, 2, 3):
             luck = chance(room)
-            work = fresh_work(Disk(), room)
+            work = opened(Disk(), room)
             for _ in range(8):
                 work.begin()
                 for _ in range(5):
@@ -547,7 +511,7 @@ class Opened(unittest.TestCase):
     def opened(self, *entries):
         disk = Watched()
         disk.add_tape(lines(*entries))
-        return disk, opened_work(disk)
+        return disk, opened(disk)
 
     def test_an_open_work_is_given_up(self):
         disk, work = self.opened((1, "begin", None), (2, "deed", PUT))
@@ -570,7 +534,7 @@ class Opened(unittest.TestCase):
         self.assertEqual((work.dirty(), work.pending(), work.image()[:2], work.page(0)), ((), (), (1, 0), ROWS))
         self.assertEqual(work.cut_head(), 3)
         disk.news()
-        again = opened_work(disk.fell(0))
+        again = opened(disk.fell(0))
         self.assertEqual((again.roll(), again.page(0), again.image()), (((3, "head", (2,) + (0,) * 31),), ROWS, (0,) * 32))
         self.assertEqual(again.begin(), 4)
 
@@ -578,7 +542,7 @@ class Opened(unittest.TestCase):
 class Cutting(unittest.TestCase):
     def test_no_end_entry(self):
         disk = Watched()
-        work = fresh_work(disk)
+        work = opened(disk)
         self.assertEqual(work.cut_head(), 0)
         work.begin()
         work.do(PUT)
@@ -606,7 +570,7 @@ class Cutting(unittest.TestCase):
 
     def test_up_to_the_least_deed_that_is_not_written(self):
         disk = Watched()
-        work = fresh_work(disk)
+        work = opened(disk)
         for page in (0, 1, 0, 2):
             work.begin()
             work.do(put(page, f"k{len(work.roll())}"))
@@ -658,7 +622,7 @@ class Cutting(unittest.TestCase):
 
     def test_works_without_deeds(self):
         disk = Watched()
-        work = fresh_work(disk)
+        work = opened(disk)
         work.begin()
         work.end()
         self.assertEqual(work.cut_head(), 2)

@@ -49,11 +49,16 @@ def puts(roll, stands):
     pages = wounded_by(roll, stands)
     if len(pages) > 0:
         raise Wounded(pages)
+    return frames_led(roll, stands)
+
+
+def frames_led(roll, stands):
+    """The page, the number and the rows that each move of the plan gives; the image may be one that is not mendable."""
     deeds = deeds_of(roll)
     numbers = _numbers(roll)
     image = image_of(roll, stands)
     versions = list(image)
-    rows = [here for _, here in stands]
+    rows = [None if stand is None else stand[1] for stand in stands]
     found = []
     for t, way in plan(bare_of(roll), image):
         deed = deeds[t - 1][1] if way == 1 else inverse(deeds[t - 1][1])

@@ -68,6 +68,12 @@ def mendable(log, image):
     return is_image(log, image) and _goal(log, image) == versions_at(log, len(log[1]))
 
 
+def leads_within(step, lots):
+    """Whether both versions of the deed are in the lot of its page."""
+    page, version, _ = step
+    return in_lot(lots[page], version - 1) and in_lot(lots[page], version)
+
+
 def _goal(log, image):
     """The slice at the last moment of the lots of the image."""
     return slice_at(log, known(log, image), len(log[1]))
@@ -84,11 +90,5 @@ def _nearest(lot, version):
 def _way(steps, lots, start, goal):
     """The moves by which the slice at the moment `start` becomes the slice at the moment `goal`."""
     if start < goal:
-        return [(t, 1) for t in range(start + 1, goal + 1) if _is_known(steps[t - 1], lots)]
-    return [(t, -1) for t in range(start, goal, -1) if _is_known(steps[t - 1], lots)]
-
-
-def _is_known(step, lots):
-    """Whether both versions of the deed are in the lot of its page."""
-    page, version, _ = step
-    return in_lot(lots[page], version - 1) and in_lot(lots[page], version)
+        return [(t, 1) for t in range(start + 1, goal + 1) if leads_within(steps[t - 1], lots)]
+    return [(t, -1) for t in range(start, goal, -1) if leads_within(steps[t - 1], lots)]
