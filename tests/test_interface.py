@@ -33,6 +33,12 @@ FUNCTIONS = {
     "names": ("is_name(thing)", "is_rowname(thing)", "is_source(thing)", "is_numbers(thing, width)"),
     "leaves": ("is_leaf_rows(rows, width)", "leaf_sums(rows, width)"),
     "branches": ("is_branch_rows(rows)", "row_of_way(rows, name)"),
+    "trees": ("table_row(look, source)", "way(look, source, name)", "references(look)", "free_pages(look)", "get(look, source, name)",
+              "walk(look, source, low, high)", "own_pages(look, source)", "shared(look, one, two)"),
+    "sums": ("count(look, source, low, high)", "total(look, source, i, low, high)", "nth(look, source, k)"),
+    "tables": ("made_storedeed(thing)", "is_storedeed(thing)", "planned(view, deeds, kept, manner)"),
+    "checker": ("faults(view)", "sound(view)", "meaning(view)"),
+    "storetexts": ("storedeed_text(deed)", "read_storedeed(text)", "store_text(view)", "read_store(text)"),
     "logs": ("is_entry(thing)", "made_entry(thing)", "entry_line(entry)", "read_line(line)"),
 }
 METHODS = {
@@ -46,6 +52,7 @@ METHODS = {
         "begin(self)", "do(self, deed)", "end(self)", "give_up(self)", "flush_log(self)", "sync_log(self)", "may_go(self, page)",
         "write(self, page)", "write_knot(self, page)", "write_all(self)", "checkpoint(self)", "cut_head(self)",
     ),
+    ("store", "Store"): ("__init__(self, work, manner)", "do(self, deed)", "do_all(self, deeds)", "view(self)"),
 }
 
 

@@ -1,4 +1,4 @@
-"""Names: what tables, snapshots and rows are called, and what numbers a row has."""
+"""Names: what tables, snapshots and rows are called, and what numbers they have."""
 
 from wendleaf.numerals import is_within
 
@@ -10,6 +10,8 @@ SNAPSHOT = "s."
 # The least low of a branch: it is less than every row name.
 LEAST = "."
 GREATEST_IN_ROW = 10 ** 9
+MOST_WIDTH = 2
+MOST_IN_TABLE = 400
 
 
 def is_name(thing):
@@ -34,6 +36,16 @@ def is_numbers(thing, width):
     if not isinstance(thing, tuple) or len(thing) != width:
         return False
     return all(is_within(number, -GREATEST_IN_ROW, GREATEST_IN_ROW) for number in thing)
+
+
+def is_width(thing):
+    """Whether the thing is how many numbers the rows of a table have."""
+    return is_within(thing, 1, MOST_WIDTH)
+
+
+def is_most(thing):
+    """Whether the thing is how many rows a table may have."""
+    return is_within(thing, 0, MOST_IN_TABLE)
 
 
 def _has_signs(thing, most):
