@@ -205,11 +205,14 @@ class WrongLines(unittest.TestCase):
         for line in ("m 5", "m 5,6,7", "m 5,1000000001", "m 5, 6", "m 5,06"):
             self.bad("t.a 2 60\nk 5,6\n" + line + "\n", 2)
         self.assertEqual(len(read_store("t.a 1 60\nk 5\nk0 1000000000\nk00 -1000000000\nm 0\n")), 5)
+        self.bad("t.a 1 60\na 1\nc 1\nb 1\n", 3)
+        self.bad("t.a 1 60\na 1\nc 1\nd 1\nc 1\ne 1\n", 4)
 
     def test_sources(self):
         self.bad("t.a 1 60\nt.a 1 60\n", 1)
         self.bad("t.b 1 60\nk 5\nt.a 1 60\n", 2)
         self.bad("t.b 1 60\ns.c 1 60\n", 1)
+        self.bad("t.a 1 60\nt.c 1 60\nt.b 1 60\n", 2)
         self.bad("s.b 1 60\ns.b 1 60\n", 1)
         self.assertEqual(read_store("s.z 1 60\nt.a 1 60\nt.aa 1 60\n")[-1], ("make", "aa", 1, 60))
         # Names rise within one source only.

@@ -599,7 +599,10 @@ class Plans(unittest.TestCase):
         deed = ("put", "a", "k", (6,))
         short = planned(pages, (deed,), (), "short")
         self.assertEqual(short[0], ("take", 2, 1, None, None))
-        for kept, carried in (((), False), ((("add", 1, "k", 0, 2, "k", 0, 1),), True), ((("add", 2, "k", 0, 1, "k", 0, 1),), False),
+        for kept, carried in (((), False), ((("add", 1, "k", 0, 0, "k", 0, 1), ("add", 0, "k", 0, 2, "k", 0, 1)), True),
+                              ((("add", 1, "k", 0, 0, "k", 0, 1), ("add", 0, "k", 0, 3, "k", 0, 1)), False),
+                              (tuple(("take", page, page + 1, None, None) for page in range(1, 31)) + (("take", 31, 2, None, None),), True),
+                              ((("add", 1, "k", 0, 2, "k", 0, 1),), True), ((("add", 2, "k", 0, 1, "k", 0, 1),), False),
                               ((("take", 1, 9, None, None), ("drop", 9, 2, None, None)), True), ((("take", 1, 9, None, None), ("drop", 2, 9, None, None)), False)):
             plan, _, _ = self.step(pages, dicts, (deed,), kept, "ringless")
             self.assertEqual(plan[0], ("carry", 2, (), pages[1]) if carried else short[0])

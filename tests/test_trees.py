@@ -16,12 +16,32 @@ class Looks:
     def __init__(self, pages):
         self.pages = pages
         self.calls = 0
+        self.seen = set()
 
     def look(self, page):
         if not 0 <= page <= 31:
             raise AssertionError(page)
         self.calls += 1
+        self.seen.add(page)
         return self.pages[page]
+
+
+def pages_within(pages, source, low, high):
+    """The pages below the root whose names, as the branches tell, all lie in the range; and those that are below them."""
+    found = set()
+
+    def follow(page, height, first, end, inside):
+        if inside:
+            found.add(page)
+        if height > 0:
+            lows = [each for each, _ in pages[page]]
+            for (own, value), behind in zip(pages[page], lows[1:] + [end]):
+                lies = (low is None or low <= own) and (high is None or behind is not None and behind <= high)
+                follow(value[0], height - 1, own, behind, inside or lies)
+
+    root, height, _, _ = dict(pages[0])[source]
+    follow(root, height, ".", None, False)
+    return found
 
 
 def parents_of(pages):
@@ -183,6 +203,23 @@ class Trees(unittest.TestCase):
         self.assertEqual(heights, {0, 1, 2, 3, 4})
 
 
+    def test_children_that_lie_in_the_range_as_a_whole_are_not_looked_at(self):
+        skipped = 0
+        for builder, pages in self.views(120, 60):
+            for source, rows in builder.rows.items():
+                lows = [low for page in range(1, 32) for low, value in pages[page] if len(value) == 4 and low != "."]
+                for low in self.bounds(rows) + lows[:4]:
+                    for high in self.bounds(rows) + lows[:4]:
+                        inside = pages_within(pages, source, low, high)
+                        for call, ahead in ((count, ()), (total, (0,))):
+                            looks = Looks(pages)
+                            call(looks.look, source, *ahead, low, high)
+                            self.assertEqual(looks.seen & inside, set())
+                            self.assertLessEqual(looks.calls, 2 + 2 * builder.book[source][1])
+                        skipped += len(inside)
+        self.assertGreater(skipped, 1000)
+
+
 class Refusals(unittest.TestCase):
     VIEW = view_of(("make", "a", 1, 400), ("put", "a", "k", (5,)), ("snap", "a", "s"), ("make", "b", 2, 0))
 
@@ -220,6 +257,9 @@ class Refusals(unittest.TestCase):
             self.refused(("BadNumber", i), total, "s.s", i, None, ".")
         self.refused(("BadNumber", 2), total, "t.b", 2, None, None)
         self.assertEqual(total(self.VIEW.__getitem__, "t.b", 1, None, None), 0)
+        for i in (True, False, None, "0"):
+            self.refused(("BadNumber", i), total, "t.a", i, ".", None)
+            self.refused(("BadNumber", i), nth, "t.a", i)
         self.refused(("BadNumber", 0), nth, "t.b", 0)
         self.refused(("BadNumber", 1), nth, "s.s", 1)
         self.assertEqual(nth(self.VIEW.__getitem__, "s.s", 0), "k")

@@ -27,9 +27,10 @@ def sound(view):
 
 def meaning(view):
     """For each source its width, its most and all of its rows."""
-    rows = [(source, value[2], value[3]) for source, value in view[BOOK]]
-    return tuple([
-        (source, width, most, walk(lambda page: view[page], source, None, None)) for source, width, most in rows])
+    def look(page):
+        return view[page]
+
+    return tuple([(source, value[2], value[3], walk(look, source, None, None)) for source, value in view[BOOK]])
 
 
 def _rows_phase(view):
